@@ -1,0 +1,1 @@
+"""Calmlists: rolls of orders with which the most never go round."""
