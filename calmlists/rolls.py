@@ -1,6 +1,6 @@
 """Rolls: ascending tuples of orders of the same things."""
 
-from calmlists.errors import InvalidOrder, InvalidOrders, InvalidText, TooFew, TooMany, UnknownOrder
+from calmlists.errors import InvalidOrder, InvalidOrders, InvalidText, NotARoll, TooFew, TooMany, UnknownOrder
 from calmlists.limits import LEAST_THINGS, MOST_ORDERS, MOST_THINGS
 
 
@@ -88,10 +88,21 @@ class Roll:
 
     def without(self, order):
         """The roll without one of its orders."""
-        if not is_order_of(self._things, order):
-            raise InvalidOrder(order)
-        if order not in self._orders:
-            raise UnknownOrder(order)
+        check_order_in(self, order)
         if len(self._orders) == 1:
             raise TooFew(0)
         return Roll(tuple([each for each in self._orders if each != order]))
+
+
+def check_roll(roll):
+    """Refuses what is no roll."""
+    if not isinstance(roll, Roll):
+        raise NotARoll(roll)
+
+
+def check_order_in(roll, order):
+    """Refuses what is no order of the roll's things, then what is no order of the roll."""
+    if not is_order_of(roll.things, order):
+        raise InvalidOrder(order)
+    if order not in roll:
+        raise UnknownOrder(order)

@@ -2,13 +2,36 @@
 
 import ast
 import importlib
+import inspect
 import unittest
 from pathlib import Path
 
 FOLDER = Path(__file__).resolve().parent.parent / "calmlists"
 # In the order of the document: each module needs only those listed ahead of it.
-MODULES = ("limits", "errors", "rolls")
-CLASSES = {"rolls": {"Roll": ("__init__", "read", "orders", "things", "__len__", "__str__", "more", "without")}}
+MODULES = ("limits", "errors", "rolls", "threes", "crowds", "most")
+LIBRARY = {"itertools": ("combinations", "permutations")}
+CLASSES = {
+    "rolls": {
+        "Roll": {
+            "__init__": "self orders", "read": "text", "orders": None, "things": None, "__len__": "self",
+            "__str__": "self", "__contains__": "self x", "__eq__": "self other", "more": "self order",
+            "without": "self order"},
+    },
+    "crowds": {
+        "Crowd": {
+            "__init__": "self roll numbers", "roll": None, "numbers": None, "people": None, "__eq__": "self other",
+            "above": "self thing other", "beats": "self thing other", "some_round": "self", "winner": "self",
+            "ties": "self", "order": "self", "agreeing": "self", "joined": "self order many"},
+    },
+}
+FUNCTIONS = {
+    "threes": {
+        "threes": "roll", "upon": "order three", "places": "roll three", "wheel_in": "roll three", "is_calm": "roll",
+        "rough": "roll"},
+    "most": {
+        "of_three": "roll orders", "is_closed": "roll", "is_spoken": "roll", "open_three": "roll",
+        "unspoken_three": "roll", "hull": "roll"},
+}
 
 
 def sources():
@@ -16,7 +39,14 @@ def sources():
 
 
 def imported(tree):
-    return [node.module for node in ast.walk(tree) if isinstance(node, ast.ImportFrom)]
+    """All modules that are imported from, and the names."""
+    nodes = [node for node in ast.walk(tree) if isinstance(node, ast.ImportFrom)]
+    return [(node.module, name.name) for node in nodes for name in node.names]
+
+
+def named(function):
+    """The parameters of a function, with blanks between them."""
+    return " ".join(inspect.signature(function).parameters)
 
 
 class FilesTest(unittest.TestCase):
@@ -43,7 +73,8 @@ class FilesTest(unittest.TestCase):
             tree = ast.parse((FOLDER / f"{name}.py").read_text("utf-8"))
             with self.subTest(name=name):
                 ahead = [f"calmlists.{each}" for each in MODULES[:at]]
-                self.assertEqual([each for each in imported(tree) if each not in ahead], [])
+                others = [each for each in imported(tree) if each[0] not in ahead]
+                self.assertEqual([each for each in others if each[1] not in LIBRARY.get(each[0], ())], [])
                 self.assertEqual([node for node in ast.walk(tree) if isinstance(node, ast.Import)], [])
 
 
@@ -54,7 +85,21 @@ class InterfaceTest(unittest.TestCase):
             for each, methods in classes.items():
                 listed = getattr(module, each)
                 self.assertEqual(listed.__module__, f"calmlists.{name}")
-                self.assertEqual([method for method in methods if method not in vars(listed)], [])
+                for method, parameters in methods.items():
+                    with self.subTest(method=f"{each}.{method}"):
+                        self.assertIn(method, vars(listed))
+                        if parameters is None:
+                            self.assertIsInstance(vars(listed)[method], property)
+                        else:
+                            self.assertEqual(named(getattr(listed, method)), parameters)
+
+    def test_functions_are_defined_where_they_are_listed(self):
+        for name, functions in FUNCTIONS.items():
+            module = importlib.import_module(f"calmlists.{name}")
+            for each, parameters in functions.items():
+                with self.subTest(function=each):
+                    self.assertEqual(getattr(module, each).__module__, f"calmlists.{name}")
+                    self.assertEqual(named(getattr(module, each)), parameters)
 
 
 if __name__ == "__main__":

@@ -2,7 +2,7 @@ import unittest
 
 from calmlists.errors import InvalidOrder, InvalidOrders, InvalidText, TooFew, TooMany, UnknownOrder
 from calmlists.rolls import Roll
-from support import NO_ORDER_STRINGS, NO_ORDERS, NO_STRINGS, nested, orders_of
+from support import NO_ORDER_STRINGS, NO_ORDERS, NO_STRINGS, Case, nested, orders_of
 
 HILLS = ("abc", "bac", "bca", "cba")
 FIVE = orders_of("abcde")
@@ -12,15 +12,6 @@ ROLLS = (
     ("azm", "maz", "zma"), ("dbca",), FIVE[:1], FIVE[:47], FIVE[:48], FIVE[72:], SIX[-1:], SIX[:48], SIX[-48:],
     SIX[::15], ("abcdef", "fedcba"),
 )
-
-
-class Case(unittest.TestCase):
-    def refused(self, error, attribute, value, call, *values, **named):
-        """The call raises exactly this error, with exactly this value as its attribute."""
-        with self.assertRaises(error) as held:
-            call(*values, **named)
-        self.assertIs(held.exception.__class__, error)
-        self.assertIs(getattr(held.exception, attribute), value)
 
 
 class MakingTest(Case):
