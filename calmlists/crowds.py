@@ -2,7 +2,7 @@
 
 from itertools import permutations
 
-from calmlists.errors import InvalidNumber, InvalidPeople, UnknownThing
+from calmlists.errors import InvalidNumber, InvalidPeople, NotACrowd, UnknownThing
 from calmlists.rolls import check_order_in, check_roll
 
 
@@ -139,3 +139,9 @@ class Crowd:
         """The things that each thing of the roll beats, as a string."""
         things = self._roll.things
         return {thing: "".join([other for other in things if self.beats(thing, other)]) for thing in things}
+
+
+def check_crowd(crowd):
+    """Refuses what is no crowd."""
+    if not isinstance(crowd, Crowd):
+        raise NotACrowd(crowd)

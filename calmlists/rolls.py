@@ -1,5 +1,7 @@
 """Rolls: ascending tuples of orders of the same things."""
 
+from itertools import permutations
+
 from calmlists.errors import InvalidOrder, InvalidOrders, InvalidText, NotARoll, TooFew, TooMany, UnknownOrder
 from calmlists.limits import LEAST_THINGS, MOST_ORDERS, MOST_THINGS
 
@@ -19,6 +21,11 @@ def things_of(order):
 def is_order_of(things, value):
     """Whether a value is an order of these things."""
     return is_order(value) and things_of(value) == things
+
+
+def all_orders(things):
+    """The ascending list of all orders of some ascending things."""
+    return ["".join(each) for each in permutations(things)]
 
 
 def right_ahead(orders):

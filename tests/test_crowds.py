@@ -6,15 +6,12 @@ from unittest.mock import ANY
 from calmlists.crowds import Crowd
 from calmlists.errors import InvalidNumber, InvalidOrder, InvalidPeople, UnknownOrder, UnknownThing
 from calmlists.rolls import Roll
+from samples import EVERY, FOUR, HILLS, WHEEL
 from support import (
     NO_ORDERS, NO_ROLLS, NO_STRINGS, NO_THINGS, Case, Shy, all_numbers, beaten, most, nested, orders_of, people_of,
     rounds,
 )
 
-HILLS = Roll(("abc", "bac", "bca", "cba"))
-WHEEL = Roll(("abc", "bca", "cab"))
-FOUR = Roll(("abcd", "bacd", "bcad", "bcda", "cbad", "cbda", "cdba", "dcba"))
-EVERY = Roll(orders_of("abc"))
 # Over this roll there are rounds of four things without one of three: a and c, b and d are tied.
 ROUND_OF_FOUR = Crowd(Roll(("abcd", "bcda", "cdab", "dabc")), (1, 1, 1, 1))
 FIVE = Roll(orders_of("abcde", 48))

@@ -7,44 +7,10 @@ from calmlists.errors import InvalidOrders, NotCalm
 from calmlists.most import hull, is_closed, is_spoken, of_three, open_three, unspoken_three
 from calmlists.rolls import Roll
 from calmlists.threes import is_calm, rough
+from samples import CALM, FOUR, HILLS, LARGE, PARTS, ROUGH, SIX, SOME, SQUARE, WHEEL, kept_calm
 from support import (
     NO_ORDERS, Case, all_numbers, all_rolls, are_a_wheel, calm, most, nested, orders_of, people_of, threes_in,
 )
-
-HILLS = Roll(("abc", "bac", "bca", "cba"))
-WHEEL = Roll(("abc", "bca", "cab"))
-FOUR = Roll(("abcd", "bacd", "bcad", "bcda", "cbad", "cbda", "cdba", "dcba"))
-SOME = Roll(("abcd", "bcda", "cbad"))
-SQUARE = Roll(("abcd", "abdc", "bacd", "badc"))
-SIX = orders_of("abcdef")
-
-
-def kept_calm(things, seed):
-    """A full roll of some things, of orders that are put in one after the other; the same one each time."""
-    chosen = random.Random(seed)
-    orders = list(orders_of(things))
-    chosen.shuffle(orders)
-    held = [orders[0]]
-    for order in orders[1:]:
-        if is_calm(Roll(tuple(sorted([*held, order])))):
-            held.append(order)
-    return Roll(tuple(sorted(held)))
-
-
-def parts_of(roll, many, least=1):
-    """So many parts of a roll, the same ones each time."""
-    chosen = random.Random(3)
-    sizes = [chosen.randint(min(least, len(roll)), len(roll)) for _ in range(many)]
-    return [Roll(tuple(sorted(chosen.sample(roll.orders, size)))) for size in sizes]
-
-
-LARGE = [kept_calm("abcde", 1), kept_calm("vwxyz", 2), kept_calm("abcdef", 3)]
-PARTS = [
-    *parts_of(FOUR, 40), *parts_of(kept_calm("abcd", 4), 30), *parts_of(kept_calm("abcd", 11), 30),
-    *[part for roll in LARGE for part in parts_of(roll, 12)],
-]
-CALM = [*[roll for roll in all_rolls("abc") if calm(roll.orders)], FOUR, SOME, SQUARE, *LARGE, *PARTS]
-ROUGH = [*[roll for roll in all_rolls("abc") if not calm(roll.orders)], Roll(orders_of("abcd")), Roll(SIX[:48])]
 
 
 def closed(orders):

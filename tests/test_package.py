@@ -8,7 +8,7 @@ from pathlib import Path
 
 FOLDER = Path(__file__).resolve().parent.parent / "calmlists"
 # In the order of the document: each module needs only those listed ahead of it.
-MODULES = ("limits", "errors", "rolls", "threes", "crowds", "most")
+MODULES = ("limits", "errors", "rolls", "threes", "crowds", "most", "widening", "rows", "dropping")
 LIBRARY = {"itertools": ("combinations", "permutations")}
 CLASSES = {
     "rolls": {
@@ -31,6 +31,11 @@ FUNCTIONS = {
     "most": {
         "of_three": "roll orders", "is_closed": "roll", "is_spoken": "roll", "open_three": "roll",
         "unspoken_three": "roll", "hull": "roll"},
+    "widening": {
+        "wider": "roll", "is_full": "roll", "full": "roll", "all_full": "roll", "kept": "things rules"},
+    "rows": {
+        "unlike": "one other", "row": "roll", "is_row": "roll orders", "between": "roll one other", "person": "crowd"},
+    "dropping": {"least_out": "roll"},
 }
 
 

@@ -1,28 +1,16 @@
-import random
 import unittest
 from itertools import combinations, permutations
 
 from calmlists.errors import InvalidOrder, InvalidThree
 from calmlists.rolls import Roll
 from calmlists.threes import is_calm, places, rough, threes, upon, wheel_in
+from samples import FOUR, HILLS, SIX, WHEEL, drawn_rolls
 from support import (
     NO_ORDERS, NO_THREES, Case, all_numbers, all_rolls, are_a_wheel, calm, has_wheel, orders_of, people_of, rounds,
     threes_in, where,
 )
 
-HILLS = Roll(("abc", "bac", "bca", "cba"))
-WHEEL = Roll(("abc", "bca", "cab"))
-FOUR = Roll(("abcd", "bacd", "bcad", "bcda", "cbad", "cbda", "cdba", "dcba"))
-SIX = orders_of("abcdef")
 WORDS = ("first", "middle", "last")
-
-
-def some_rolls(things, many, least=1, most=48):
-    """Rolls of so many orders, the same ones each time."""
-    chosen = random.Random(5)
-    orders = orders_of(things)
-    sizes = [chosen.randint(least, min(most, len(orders))) for _ in range(many)]
-    return [Roll(tuple(sorted(chosen.sample(orders, size)))) for size in sizes]
 
 
 def places_told(orders, three):
@@ -32,7 +20,7 @@ def places_told(orders, three):
     return tuple(sorted((thing, WORDS[at]) for thing, at in found))
 
 
-MIXED = [*some_rolls("abcd", 60), *some_rolls("abcde", 40, 1, 12), *some_rolls("uvwxyz", 30, 1, 8)]
+MIXED = [*drawn_rolls("abcd", 60), *drawn_rolls("abcde", 40, 1, 12), *drawn_rolls("uvwxyz", 30, 1, 8)]
 
 
 class ThreesTest(Case):
