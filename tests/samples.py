@@ -47,6 +47,35 @@ def drawn_rolls(things, many, least=1, most=48):
     return [Roll(tuple(sorted(chosen.sample(orders, size)))) for size in sizes]
 
 
+def as_roll(orders):
+    return Roll(tuple(sorted(orders)))
+
+
+def drawn_row(things, chosen):
+    """From an order to the one turned round, in each step two things side by side that have not changed yet."""
+    order = chosen.choice(orders_of(things))
+    start, orders = order, [order]
+    while order != start[::-1]:
+        ats = [at for at in range(len(order) - 1) if start.index(order[at]) < start.index(order[at + 1])]
+        at = chosen.choice(ats)
+        order = order[:at] + order[at + 1] + order[at] + order[at + 2:]
+        orders.append(order)
+    return tuple(orders)
+
+
+def drawn_rows():
+    """Rolls that stand in a row, each as it stands there."""
+    chosen = random.Random(12)
+    found = []
+    for things in ("abc", "abcd", "kmtz", "abcde", "vwxyz", "abcdef"):
+        for _ in range(8):
+            whole = drawn_row(things, chosen)
+            found.append(whole)
+            kept = sorted(chosen.sample(range(len(whole)), chosen.randint(1, len(whole))))
+            found.append(tuple(whole[at] for at in kept))
+    return found
+
+
 def other_letters(order):
     return order.translate(str.maketrans("abcdefuvwxyz", "qzbmaxgyfkrd"))
 
@@ -67,4 +96,5 @@ PARTS = [
     *[part for roll in LARGE for part in parts_of(roll, 12)],
 ]
 CALM = [*[roll for roll in all_rolls("abc") if calm(roll.orders)], FOUR, SOME, SQUARE, *LARGE, *PARTS]
+ROWS = drawn_rows()
 ROUGH = [*[roll for roll in all_rolls("abc") if not calm(roll.orders)], Roll(orders_of("abcd")), Roll(SIX[:48])]

@@ -8,7 +8,10 @@ from pathlib import Path
 
 FOLDER = Path(__file__).resolve().parent.parent / "calmlists"
 # In the order of the document: each module needs only those listed ahead of it.
-MODULES = ("limits", "errors", "rolls", "threes", "crowds", "most", "widening", "rows", "dropping")
+MODULES = (
+    "limits", "errors", "rolls", "threes", "crowds", "most", "widening", "rows", "dropping", "desks", "checker",
+    "certificates", "console",
+)
 LIBRARY = {"itertools": ("combinations", "permutations")}
 CLASSES = {
     "rolls": {
@@ -23,6 +26,13 @@ CLASSES = {
             "above": "self thing other", "beats": "self thing other", "some_round": "self", "winner": "self",
             "ties": "self", "order": "self", "agreeing": "self", "joined": "self order many"},
     },
+    "desks": {
+        "Desk": {
+            "__init__": "self roll", "roll": None, "promises": None, "changes": None, "__eq__": "self other",
+            "put": "self order", "take": "self order", "promise": "self wish", "lift": "self index", "undo": "self",
+            "trial": "self", "tried": "self action"},
+    },
+    "console": {"Console": {"__init__": "self roll", "desk": None, "say": "self command"}},
 }
 FUNCTIONS = {
     "threes": {
@@ -36,6 +46,10 @@ FUNCTIONS = {
     "rows": {
         "unlike": "one other", "row": "roll", "is_row": "roll orders", "between": "roll one other", "person": "crowd"},
     "dropping": {"least_out": "roll"},
+    "checker": {"accepts": "claim certificate"},
+    "certificates": {
+        "certify": "roll", "certify_closed": "roll", "certify_spoken": "roll", "certify_full": "roll",
+        "certify_crowd": "crowd"},
 }
 
 

@@ -8,8 +8,8 @@ from calmlists.most import is_spoken
 from calmlists.rolls import Roll
 from calmlists.rows import between, is_row, person, row, unlike
 from samples import (
-    CALM, CHANGES, EVERY, FEW, FIVE_THERE, FOUR, HILLS, LARGE, NO_CROWDS, PARTS, ROUGH, SIX, SOME, SQUARE, THREE_THERE,
-    WHEEL, changed, drawn_rolls,
+    CALM, CHANGES, EVERY, FEW, FIVE_THERE, FOUR, HILLS, LARGE, NO_CROWDS, PARTS, ROUGH, ROWS, SIX, SOME, SQUARE,
+    THREE_THERE, WHEEL, as_roll, changed, drawn_rolls,
 )
 from support import NO_ORDERS, Case, all_numbers, all_rolls, most, nested, orders_of, people_of
 
@@ -39,37 +39,7 @@ def rows_of(orders):
     return [each for each in permutations(orders) if once(each)]
 
 
-def drawn_row(things, chosen):
-    """From an order to the one turned round, in each step two things side by side that have not changed yet."""
-    order = chosen.choice(orders_of(things))
-    start, orders = order, [order]
-    while order != start[::-1]:
-        ats = [at for at in range(len(order) - 1) if start.index(order[at]) < start.index(order[at + 1])]
-        at = chosen.choice(ats)
-        order = order[:at] + order[at + 1] + order[at] + order[at + 2:]
-        orders.append(order)
-    return tuple(orders)
-
-
-def drawn_rows():
-    """Rolls that stand in a row, each as it stands there."""
-    chosen = random.Random(12)
-    found = []
-    for things in ("abc", "abcd", "kmtz", "abcde", "vwxyz", "abcdef"):
-        for _ in range(8):
-            whole = drawn_row(things, chosen)
-            found.append(whole)
-            kept = sorted(chosen.sample(range(len(whole)), chosen.randint(1, len(whole))))
-            found.append(tuple(whole[at] for at in kept))
-    return found
-
-
-ROWS = drawn_rows()
 SMALL = [*all_rolls("abc")[:56], SOME, SQUARE, *[part for part in PARTS if len(part) < 6], *drawn_rolls("abcd", 20, 1, 5)]
-
-
-def as_roll(orders):
-    return Roll(tuple(sorted(orders)))
 
 
 class UnlikeTest(Case):

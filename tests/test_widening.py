@@ -16,7 +16,7 @@ from support import (
 
 WORDS = ("first", "middle", "last")
 SMALL = [*all_rolls("abc"), FOUR, SOME, SQUARE, *PARTS[:60], *drawn_rolls("abcd", 60, 1, 6)]
-LARGER = [*LARGE, *PARTS[100::4], *drawn_rolls("abcde", 10, 1, 4), *drawn_rolls("uvwxyz", 4, 1, 3), Roll((SIX[100],))]
+LARGER = [*LARGE, *PARTS[100::6], *drawn_rolls("abcde", 8, 1, 4), *drawn_rolls("uvwxyz", 2, 1, 3), Roll((SIX[100],))]
 MIDDLES = tuple((three, three[1], "first" if three[1] in "bdf" else "last") for three in threes_in("abcdef"))
 
 
