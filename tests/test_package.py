@@ -63,6 +63,13 @@ def imported(tree):
     return [(node.module, name.name) for node in nodes for name in node.names]
 
 
+def defined(name):
+    """The names that a module defines itself."""
+    rows = ast.parse((FOLDER / f"{name}.py").read_text("utf-8")).body
+    found = [row.name for row in rows if isinstance(row, (ast.FunctionDef, ast.ClassDef))]
+    return [*found, *[target.id for row in rows if isinstance(row, ast.Assign) for target in row.targets]]
+
+
 def named(function):
     """The parameters of a function, with blanks between them."""
     return " ".join(inspect.signature(function).parameters)
@@ -95,6 +102,14 @@ class FilesTest(unittest.TestCase):
                 others = [each for each in imported(tree) if each[0] not in ahead]
                 self.assertEqual([each for each in others if each[1] not in LIBRARY.get(each[0], ())], [])
                 self.assertEqual([node for node in ast.walk(tree) if isinstance(node, ast.Import)], [])
+
+
+    def test_imports_name_the_file_that_defines_the_name(self):
+        for name in MODULES:
+            for module, each in imported(ast.parse((FOLDER / f"{name}.py").read_text("utf-8"))):
+                if module not in LIBRARY:
+                    with self.subTest(name=name, each=each):
+                        self.assertIn(each, defined(module.split(".")[1]))
 
 
 class InterfaceTest(unittest.TestCase):
